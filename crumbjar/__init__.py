@@ -1,0 +1,1 @@
+"""Cookie jars: lines, crumbs, and the rules by which they are kept and sent."""
