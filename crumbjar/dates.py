@@ -31,13 +31,19 @@ def date_of(text):
 def date_text(tick):
     """Give the text by which a tick is written."""
     need_tick(tick)
+    year, month, day, hour, minute, second = parts_of(tick)
+    day_name = DAY_NAMES[(tick // DAY_SECONDS + EPOCH_DAY_NAME) % 7]
+    return f"{day_name}, {day:02d} {MONTH_NAMES[month - 1]} {year:04d} {hour:02d}:{minute:02d}:{second:02d} GMT"
+
+
+def parts_of(tick):
+    """Give the year, month, day, hour, minute and second of a tick."""
     days, seconds = divmod(tick, DAY_SECONDS)
     year = _year_of(days)
     month, day = _month_and_day(year, days - _days_before(year))
     hour, rest = divmod(seconds, 3600)
     minute, second = divmod(rest, 60)
-    day_name = DAY_NAMES[(days + EPOCH_DAY_NAME) % 7]
-    return f"{day_name}, {day:02d} {MONTH_NAMES[month - 1]} {year:04d} {hour:02d}:{minute:02d}:{second:02d} GMT"
+    return (year, month, day, hour, minute, second)
 
 
 def _tokens(text):
@@ -90,7 +96,7 @@ def _tick_of(found):
     hour, minute, second = [int(number) for number in found["time"].split(":")]
     day = int(found["day"])
     month = _month_of(found["month"])
-    year = _meant_year(int(found["year"]))
+    year = _year_told(found["year"])
     if hour > 23 or minute > 59 or second > 59 or year < FIRST_YEAR:
         return None
     if not 1 <= day <= _days_of_month(year, month):
@@ -101,12 +107,12 @@ def _tick_of(found):
     return days * DAY_SECONDS + hour * 3600 + minute * 60 + second
 
 
-def _meant_year(year):
-    if year <= 69:
-        return 2000 + year
-    if year <= 99:
-        return 1900 + year
-    return year
+def _year_told(digits):
+    year = int(digits)
+    # A year of four digits is the one that it tells: 0099 is not 1999.
+    if len(digits) > 2:
+        return year
+    return 2000 + year if year <= 69 else 1900 + year
 
 
 def _is_leap(year):

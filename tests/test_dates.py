@@ -157,9 +157,13 @@ class DateOfTest(unittest.TestCase):
             self.assertEqual(date_of(f"6 Nov {number:02d} 8:49:37"), tick_at(year, 11, 6, 8, 49, 37))
         self.assertEqual(date_of("31 Dec 69 23:59:59"), tick_at(2069, 12, 31, 23, 59, 59))
         self.assertEqual(date_of("1 Jan 70 0:0:0"), 0)
-        # 0 to 99 as four digits are the same numbers.
-        self.assertEqual(date_of("6 Nov 0069 8:49:37"), date_of("6 Nov 69 8:49:37"))
-        self.assertEqual(date_of("6 Nov 0070 8:49:37"), date_of("6 Nov 70 8:49:37"))
+
+    def test_years_of_four_digits_below_1601(self):
+        for year in range(1601):
+            for text in (f"17 Mar {year:04d} 21:31:01", f"{year:04d} 17 Mar 21:31:01", f"17 Mar {year:04d} 21:31:01 94",
+                         f"16:28:00/26/decem/{year:04d}/6816"):
+                self.assertIsNone(date_of(text), text)
+        self.assertEqual(date_of("17 Mar 1601 21:31:01"), 0)
 
     def test_years_of_four_digits(self):
         self.check((
