@@ -22,22 +22,34 @@ def suffix_of(rules, host):
     """Give the suffix of a host, None for an address host."""
     need_rules(rules)
     need_host(host)
-    if is_address_host(host):
-        return None
-    return _last_labels(host, _suffix_size(rules, host))
+    return known_suffix(rules, host)
 
 
 def family_of(rules, host):
     """Give the family of a host."""
-    suffix = suffix_of(rules, host)
-    if suffix is None:
-        return host
-    return _last_labels(host, _size(suffix) + 1)
+    need_rules(rules)
+    need_host(host)
+    return known_family(rules, host)
 
 
 def is_suffix(rules, host):
     """Tell whether a host is its own suffix."""
     return suffix_of(rules, host) == host
+
+
+def known_suffix(rules, host):
+    """Give the suffix of a host as suffix_of does, for rules and a host that are known to be right."""
+    if is_address_host(host):
+        return None
+    return _last_labels(host, _suffix_size(rules, host))
+
+
+def known_family(rules, host):
+    """Give the family of a host as family_of does, for rules and a host that are known to be right."""
+    suffix = known_suffix(rules, host)
+    if suffix is None:
+        return host
+    return _last_labels(host, _size(suffix) + 1)
 
 
 def site_of(rules, origin):
@@ -46,7 +58,7 @@ def site_of(rules, origin):
     if not is_origin(origin):
         raise BadOrigin(origin)
     scheme, host = origin
-    return (scheme, family_of(rules, host))
+    return (scheme, known_family(rules, host))
 
 
 def _is_rule(value):

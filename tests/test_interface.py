@@ -5,10 +5,14 @@ import inspect
 import unittest
 
 from crumbjar.addresses import address_of, default_path, path_fits
+from crumbjar.crumbs import Crumb
 from crumbjar.errors import BadHost
 from crumbjar.hosts import host_fits, host_of, is_host
 from crumbjar.lines import read_line, write_line
 from crumbjar.pieces import defects_of
+from crumbjar.requests import Request, lax, near, partition_of
+from crumbjar.rules import broken_rules, line_paper
+from crumbjar.shortest import shortest_line
 from crumbjar.suffixes import family_of, site_of, suffix_of
 
 FUNCTIONS = {
@@ -29,6 +33,32 @@ FUNCTIONS = {
         "read_line": "text",
         "write_line": "line",
     },
+    "shortest": {"shortest_date": "tick", "shortest_line": "line"},
+    "requests": {
+        "Request": "addresses, *, starter=None, frames=(), is_reading=True, by='http'",
+        "near": "rules, request",
+        "lax": "rules, request",
+        "partition_of": "rules, request",
+    },
+    "crumbs": {
+        "Crumb": "name, value, host, *, is_exact=True, path='/', is_secure=False, is_hidden=False, same='default', "
+                 "priority=1, space=None, born=(0, 0), seen=0, ends=None",
+        "remade": "crumb, **settings",
+        "is_crumb": "rules, value",
+        "has_ended": "crumb, tick",
+    },
+    "rules": {
+        "line_paper": "rules, request, text, tick, crumbs",
+        "crumb_of": "rules, request, text, tick, number",
+        "broken_rules": "rules, crumb, request, tick",
+    },
+}
+# The methods of each class, with their arguments behind self.
+METHODS = {
+    "lines.Line": {"__eq__": "other"},
+    "lines.NoCrumb": {"__eq__": "other"},
+    "requests.Request": {"__eq__": "other", "step": "number"},
+    "crumbs.Crumb": {"__eq__": "other"},
 }
 
 
@@ -41,11 +71,15 @@ class InterfaceTest(unittest.TestCase):
                     self.assertEqual(str(inspect.signature(getattr(found, name))), f"({arguments})")
                     self.assertEqual(getattr(found, name).__module__, "crumbjar." + module)
 
-    def test_classes_compare_themselves(self):
-        lines = importlib.import_module("crumbjar.lines")
-        for kind in (lines.Line, lines.NoCrumb):
-            self.assertIn("__init__", vars(kind))
-            self.assertIn("__eq__", vars(kind))
+    def test_methods_stand_in_the_class_itself(self):
+        for place, methods in METHODS.items():
+            module, _, name = place.partition(".")
+            found = vars(getattr(importlib.import_module("crumbjar." + module), name))
+            self.assertIn("__init__", found)
+            for method, arguments in methods.items():
+                with self.subTest(place + "." + method):
+                    wanted = "(" + ", ".join(["self"] + ([arguments] if arguments else [])) + ")"
+                    self.assertEqual(str(inspect.signature(found[method])), wanted)
 
 
 class ExamplesTest(unittest.TestCase):
@@ -78,6 +112,20 @@ class ExamplesTest(unittest.TestCase):
         self.assertEqual((line.value, line.path, defects_of(text)),
                          ("b=c", "/x", ((2, "path"), (3, "value"), (5, "again"), (6, "nothing"))))
         self.assertEqual(write_line(line), "a=b=c; Expires=Sun, 06 Nov 1994 08:49:37 GMT; Path=/x; Secure")
+        self.assertEqual(shortest_line(line), "a=b=c;EXPIRES=6 8:49:37 94 NOV;PATH=/x;SECURE")
+
+    def test_requests(self):
+        page, other = ("http", "www.a.com", "/shop/cart"), ("https", "b.com")
+        linked, framed = Request((page,), starter=other), Request((page,), frames=(other,))
+        self.assertEqual((near((), linked), lax((), linked), lax((), framed), partition_of((), framed)),
+                         (False, True, False, (("https", "b.com"), True)))
+        strict = Crumb("n", "1", "a.com", is_exact=False, same="strict")
+        exact = Crumb("n", "1", "a.com", same="lax")
+        self.assertEqual((broken_rules((), strict, linked, 5), broken_rules((), exact, linked, 5)),
+                         (("same",), ("host",)))
+        self.assertEqual(
+            (line_paper((), linked, "n=1; Domain=a.com; Max-Age=60", 5, ()), line_paper((), linked, "__Host-n=1", 5, ())),
+            (("set", ((), "a.com", False, "/shop", "n")), ("prefix", ())))
 
 
 if __name__ == "__main__":
