@@ -101,6 +101,12 @@ def words_broken(rules, crumb, traits, tick):
     return tuple(words)
 
 
+def is_sent(rules, crumb, traits, tick):
+    """Tell whether no rule for sending is broken, for arguments that are known to be right."""
+    # Most crumbs of a jar are for other hosts: that is asked first.
+    return _reaches(rules, crumb, traits) and words_broken(rules, crumb, traits, tick) == ()
+
+
 def sent_by_same(crumb, traits):
     """Tell whether a crumb may be sent by its same alone, however old it is."""
     if crumb.same == "strict":

@@ -8,7 +8,9 @@ from crumbjar.addresses import address_of, default_path, path_fits
 from crumbjar.crumbs import Crumb
 from crumbjar.errors import BadHost
 from crumbjar.hosts import host_fits, host_of, is_host
+from crumbjar.jars import Jar, header
 from crumbjar.lines import read_line, write_line
+from crumbjar.papers import only_first
 from crumbjar.pieces import defects_of
 from crumbjar.requests import Request, lax, near, partition_of
 from crumbjar.rules import broken_rules, line_paper
@@ -52,6 +54,19 @@ FUNCTIONS = {
         "crumb_of": "rules, request, text, tick, number",
         "broken_rules": "rules, crumb, request, tick",
     },
+    "papers": {"request_for": "rules, crumb, tick", "only_first": "rules, crumb, other, tick"},
+    "jars": {"Jar": "rules, *, most_of_family=20, most=60, crumbs=(), tick=0", "header": "pairs"},
+    "limits": {
+        "rank_of": "crumb",
+        "group_of": "rules, crumb",
+        "swept": "crumbs, tick",
+        "goes": "rules, crumbs, key, *, most_of_family, most",
+    },
+    "stops": {
+        "stop_of": "rules, crumb, request, tick",
+        "next_change": "jar, request",
+        "answers": "jar, request, goal",
+    },
 }
 # The methods of each class, with their arguments behind self.
 METHODS = {
@@ -59,6 +74,17 @@ METHODS = {
     "lines.NoCrumb": {"__eq__": "other"},
     "requests.Request": {"__eq__": "other", "step": "number"},
     "crumbs.Crumb": {"__eq__": "other"},
+    "jars.Jar": {
+        "__eq__": "other",
+        "receive": "request, text, tick",
+        "write": "request, text, tick",
+        "look": "request, tick",
+        "close": "tick",
+        "clear": "family, tick",
+        "chosen": "request, tick",
+        "crumb_at": "key",
+        "copied": "",
+    },
 }
 
 
@@ -121,11 +147,20 @@ class ExamplesTest(unittest.TestCase):
                          (False, True, False, (("https", "b.com"), True)))
         strict = Crumb("n", "1", "a.com", is_exact=False, same="strict")
         exact = Crumb("n", "1", "a.com", same="lax")
-        self.assertEqual((broken_rules((), strict, linked, 5), broken_rules((), exact, linked, 5)),
-                         (("same",), ("host",)))
+        self.assertEqual(
+            (broken_rules((), strict, linked, 5), broken_rules((), exact, linked, 5), only_first((), exact, strict, 5).by),
+            (("same",), ("host",), "http"))
         self.assertEqual(
             (line_paper((), linked, "n=1; Domain=a.com; Max-Age=60", 5, ()), line_paper((), linked, "__Host-n=1", 5, ())),
             (("set", ((), "a.com", False, "/shop", "n")), ("prefix", ())))
+
+    def test_jars(self):
+        jar = Jar(("com",))
+        request = Request((address_of("https://www.a.com/x/y"),))
+        self.assertEqual((jar.receive(request, "b=2; Path=/", 5), jar.receive(request, "a=1; Max-Age=10", 5),
+                          jar.receive(request, "b=3; Path=/", 5)), ("set", "set", "changed"))
+        self.assertEqual((header(jar.look(request, 6)), jar.log[2]),
+                         ("a=1; b=3", (3, 5, "changed", ((), "www.a.com", True, "/", "b"))))
 
 
 if __name__ == "__main__":

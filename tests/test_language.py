@@ -154,7 +154,7 @@ class CodeTest(unittest.TestCase):
             locals_ = [node.id for node in ast.walk(tree)
                        if isinstance(node, ast.Name) and not isinstance(node.ctx, ast.Load)]
             locals_ += [node.arg for node in ast.walk(tree) if isinstance(node, ast.arg)]
-            for name in locals_ + bound_names(tree):
+            for name in [name for name in locals_ if name != "_"] + bound_names(tree):
                 self.assertRegex(name, r"\A_?[A-Za-z][A-Za-z0-9_]*\Z")
                 self.assertFalse(hasattr(builtins, name), (file.name, name))
                 self.assertNotIn(name, BARRED_NAMES)
