@@ -35,7 +35,7 @@ def _orders(one, two, three):
 
 def _short_year(year):
     if FIRST_SHORT_YEAR <= year <= LAST_SHORT_YEAR:
-        return f"{year % 100:02d}"
+        return str(year)[-2:]
     return str(year)
 
 

@@ -146,6 +146,11 @@ class CodeTest(unittest.TestCase):
             if isinstance(node.value, str):
                 self.assertNotIn("%", node.value, name)
                 self.assertNotRegex(node.value, r"\._\Z|\.__\Z|\A__(.|\n)*__\Z")
+        for file in FILES:
+            text = file.read_text(encoding="ascii")
+            for node in ast.walk(ast.parse(text)):
+                if isinstance(node, ast.JoinedStr):
+                    self.assertNotIn("%", ast.get_source_segment(text, node), file.name)
 
     def test_names(self):
         for file in FILES:
