@@ -9,6 +9,7 @@ from crumbjar.suffixes import known_family, known_suffix, need_rules
 from crumbjar.words import is_integer, is_tick, need_tick
 
 DEFAULT = "default"
+DEFAULT_PRIORITY = 1
 SECURE_MARK = "__secure-"
 HOST_MARK = "__host-"
 
@@ -105,6 +106,32 @@ def mark_of(name, value):
 def key_of(space, host, is_exact, path, name):
     """Give the key of a crumb with these parts."""
     return (space or (), host, is_exact, path, name)
+
+
+def content_of(crumb):
+    """Give all that a crumb has but its key, its born and its seen."""
+    return (crumb.value, crumb.is_secure, crumb.is_hidden, crumb.same, crumb.priority, crumb.ends)
+
+
+def crumb_with(key, content, born, seen):
+    """Give the crumb with a key and a content that have the right sizes; BadCrumb if there is none."""
+    space, host, is_exact, path, name = key
+    value, is_secure, is_hidden, same, priority, ends = content
+    return Crumb(
+        name,
+        value,
+        host,
+        is_exact=is_exact,
+        path=path,
+        is_secure=is_secure,
+        is_hidden=is_hidden,
+        same=same,
+        priority=priority,
+        space=space or None,
+        born=born,
+        seen=seen,
+        ends=ends,
+    )
 
 
 def _need(field, is_right):

@@ -1,7 +1,7 @@
 """Jars: the crumbs that are kept, and the deeds that change them."""
 
 from crumbjar.crumbs import is_crumb, remade
-from crumbjar.errors import BadCrumbs, BadRequest, BadTick
+from crumbjar.errors import BadCrumbs, BadJar, BadRequest, BadTick
 from crumbjar.hosts import need_host
 from crumbjar.limits import goes, group_of, need_limits, swept
 from crumbjar.lines import read_line
@@ -149,6 +149,12 @@ class Jar:
 def header(pairs):
     """Give the text of the pairs (name, value) of an answer."""
     return "; ".join([value if name == "" else f"{name}={value}" for name, value in pairs])
+
+
+def need_jar(value):
+    """Raise BadJar unless the value is a jar."""
+    if not isinstance(value, Jar):
+        raise BadJar(value)
 
 
 def answer_of(crumbs):

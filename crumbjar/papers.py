@@ -35,13 +35,18 @@ def only_first(rules, crumb, other, tick):
     return None
 
 
+def stranger_to(rules, host):
+    """Give an origin of another family than that of a host."""
+    return [origin for origin in STRANGERS if origin[1] != known_family(rules, host)][0]
+
+
 def _sends(rules, crumb, request, tick):
     return is_sent(rules, crumb, Traits(rules, request), tick)
 
 
 def _requests(rules, crumb):
     """Give a request of each kind that matters for what is sent to the places of a crumb."""
-    stranger = [origin for origin in STRANGERS if origin[1] != known_family(rules, crumb.host)][0]
+    stranger = stranger_to(rules, crumb.host)
     requests = []
     for host in _hosts(rules, crumb):
         for scheme in SCHEMES:

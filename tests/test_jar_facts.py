@@ -8,16 +8,7 @@ from crumbjar.jars import Jar
 from crumbjar.requests import Request
 from crumbjar.rules import broken_rules, crumb_of, line_paper
 from crumbjar.suffixes import family_of
-
-RULES = ("com", "net", "far.a.com")
-HOSTS = ("a.com", "www.a.com", "x.far.a.com", "b.com", "t.net", "localhost")
-PATHS = ("/", "/x", "/x/y")
-ORIGINS = (("https", "a.com"), ("https", "b.com"), ("http", "a.com"))
-TEXTS = ("n={}", "m={}", "n={}; Path=/", "{}", "n={}; Domain=a.com", "m={}; Domain=b.com; Max-Age=40", "n={}; Secure",
-         "n={}; Secure; SameSite=None", "n={}; Secure; SameSite=None; Partitioned", "m={}; Secure; Partitioned; Max-Age=15",
-         "n={}; HttpOnly", "m={}; SameSite=Strict", "n={}; Max-Age=0", "m={}; Max-Age=0; Path=/", "k={}; Max-Age=9",
-         "__Secure-n={}", "__Host-n={}; Secure; Path=/", "l={}; Priority=Low", "h={}; Priority=High; Max-Age=30",
-         "n={}; Domain=com", "", "o={}; SameSite=Lax; Max-Age=25", "n={}; Max-Age=0; Domain=a.com")
+from some_jars import HOSTS, ORIGINS, PATHS, RULES, TEXTS, done, some_deed
 
 
 class PlainJar:
@@ -79,42 +70,10 @@ class PlainJar:
         return self.drop(sorted(key for key in self.crumbs if family_of(RULES, key[1]) == family), tick, "cleared")
 
 
-def some_request(numbers, by):
-    """A request of any kind."""
-    target = (numbers.choice(("https", "https", "http")), numbers.choice(HOSTS), numbers.choice(PATHS))
-    if by == "script":
-        return Request((target,), frames=numbers.choice(((), (), ORIGINS[:1], ORIGINS[1:2])), by="script")
-    kind = numbers.randrange(5)
-    if kind == 0:
-        return Request((target,), frames=tuple(numbers.choices(ORIGINS, k=numbers.randint(1, 2))))
-    if kind == 1:
-        return Request((target,), starter=numbers.choice(ORIGINS), is_reading=numbers.random() < 0.5)
-    if kind == 2:
-        return Request((numbers.choice(ORIGINS) + ("/",), target))
-    return Request((target,))
-
-
-def some_deed(numbers, tick):
-    """The name of a deed and its arguments."""
-    kind = numbers.choices(("receive", "write", "look", "close", "clear"), (12, 5, 5, 1, 1))[0]
-    if kind == "close":
-        return (kind, tick)
-    if kind == "clear":
-        return (kind, numbers.choice(("a.com", "b.com", "t.net", "www.a.com")), tick)
-    request = some_request(numbers, "script" if kind == "write" else "http")
-    if kind == "look":
-        return (kind, request, tick)
-    return (kind, request, numbers.choice(TEXTS).replace("{}", str(numbers.randrange(5))), tick)
-
-
-def done(jar, deed):
-    return getattr(jar, deed[0])(*deed[1:])
-
-
 class PlainTest(unittest.TestCase):
     def test_as_told(self):
         words = set()
-        for seed in range(40):
+        for seed in range(80):
             numbers = random.Random(seed)
             limits = (numbers.choice((1, 2, 4, 20)), numbers.choice((1, 3, 6, 60)))
             jar, plain, tick = Jar(RULES, most_of_family=limits[0], most=limits[1]), PlainJar(*limits), 0

@@ -13,7 +13,7 @@ FILES = sorted(FOLDER.glob("*.py"))
 LIBRARY = ("heapq", "math", "itertools", "collections")
 BUILTINS = set(
     "len range enumerate zip min max sum abs sorted reversed int str bool bytes list tuple dict set isinstance ord "
-    "repr any all divmod map Exception ValueError TypeError KeyError IndexError LookupError ZeroDivisionError "
+    "repr any all divmod map property Exception ValueError TypeError KeyError IndexError LookupError ZeroDivisionError "
     "RuntimeError NotImplementedError NotImplemented".split()
 )
 METHODS = set(
@@ -130,14 +130,21 @@ class CodeTest(unittest.TestCase):
     def test_statements(self):
         for name, node in nodes(ast.stmt):
             self.assertIsInstance(node, STATEMENTS, (name, node.lineno))
-        for name, node in nodes(ast.FunctionDef, ast.ClassDef):
+        for name, node in nodes(ast.ClassDef):
             self.assertEqual(node.decorator_list, [], name)
+        for name, node in nodes(ast.FunctionDef):
+            for decorator in node.decorator_list:
+                self.assertEqual(decorator.id, "property", name)
+                self.assertEqual([arg.arg for arg in node.args.args], ["self"], name)
+                self.assertIsNone(next((part for part in ast.walk(node) if isinstance(part, ast.Call)), None), name)
         for name, node in nodes(ast.arg):
             self.assertIsNone(node.annotation, name)
 
     def test_expressions(self):
-        barred = (ast.GeneratorExp, ast.Await, ast.Yield, ast.YieldFrom, ast.Div, ast.MatMult, ast.Set, ast.SetComp)
+        barred = (ast.GeneratorExp, ast.Await, ast.YieldFrom, ast.Div, ast.MatMult, ast.Set, ast.SetComp, ast.NamedExpr)
         self.assertEqual(nodes(*barred), [])
+        statements = [node for _, node in nodes(ast.Expr) if isinstance(node.value, ast.Yield)]
+        self.assertEqual(len(nodes(ast.Yield)), len(statements))
         for name, node in nodes(ast.Constant):
             self.assertNotIsInstance(node.value, (float, complex, bytes), name)
 
@@ -151,6 +158,16 @@ class CodeTest(unittest.TestCase):
             for node in ast.walk(ast.parse(text)):
                 if isinstance(node, ast.JoinedStr):
                     self.assertNotIn("%", ast.get_source_segment(text, node), file.name)
+
+    def test_generators(self):
+        yielding = [node.name for _, node in nodes(ast.FunctionDef)
+                    if any(isinstance(part, ast.Yield) for part in ast.walk(node))]
+        functions = [node.name for _, node in nodes(ast.FunctionDef)]
+        attributes = [node.attr for _, node in nodes(ast.Attribute)]
+        for name in yielding:
+            self.assertEqual(functions.count(name), 1)
+            self.assertNotIn(name, attributes)
+            self.assertNotIn(name, METHODS)
 
     def test_names(self):
         for file in FILES:
