@@ -2,7 +2,17 @@
 
 from crumbjar.addresses import default_path, path_fits
 from crumbjar.attributes import MOST_AGE
-from crumbjar.crumbs import DEFAULT, HOST_MARK, Crumb, has_ended, key_of, mark_of, need_crumb, need_crumbs
+from crumbjar.crumbs import (
+    DEFAULT,
+    DEFAULT_PRIORITY,
+    HOST_MARK,
+    Crumb,
+    has_ended,
+    key_of,
+    mark_of,
+    need_crumb,
+    need_crumbs,
+)
 from crumbjar.errors import BadCrumb
 from crumbjar.hosts import host_fits, is_address_host
 from crumbjar.lines import NoCrumb, read_line
@@ -56,7 +66,7 @@ def paper_of(rules, traits, line, tick, crumbs):
     covered = _covered_keys(rules, traits, line, left)
     if covered != []:
         return ("covers", min(covered))
-    key = _new_key(rules, traits, line)
+    key = new_key(rules, traits, line)
     if traits.is_script and key in [crumb.key for crumb in left if crumb.is_hidden]:
         return ("kept", key)
     return ("gone" if _ends_at_once(line, tick) else "set", key)
@@ -76,12 +86,18 @@ def made_crumb(rules, traits, line, born):
         is_secure=line.is_secure,
         is_hidden=line.is_hidden,
         same=line.same or DEFAULT,
-        priority=1 if line.priority is None else line.priority,
+        priority=DEFAULT_PRIORITY if line.priority is None else line.priority,
         space=_space(traits, line),
         born=born,
         seen=born[0],
         ends=_end(line, born[0]),
     )
+
+
+def new_key(rules, traits, line):
+    """Give the key of the crumb that a line makes or removes that breaks no rule."""
+    host, is_exact = _reach(rules, traits, line)
+    return key_of(_space(traits, line), host, is_exact, _path(traits, line), line.name)
 
 
 def words_broken(rules, crumb, traits, tick):
@@ -169,11 +185,6 @@ def _path(traits, line):
 
 def _space(traits, line):
     return traits.partition if line.is_partitioned else None
-
-
-def _new_key(rules, traits, line):
-    host, is_exact = _reach(rules, traits, line)
-    return key_of(_space(traits, line), host, is_exact, _path(traits, line), line.name)
 
 
 def _end(line, tick):

@@ -5,17 +5,24 @@ import inspect
 import unittest
 
 from crumbjar.addresses import address_of, default_path, path_fits
+from crumbjar.browsers import Browser
 from crumbjar.crumbs import Crumb
 from crumbjar.errors import BadHost
+from crumbjar.flows import audit, groups
+from crumbjar.futures import settled
 from crumbjar.hosts import host_fits, host_of, is_host
 from crumbjar.jars import Jar, header
-from crumbjar.lines import read_line, write_line
+from crumbjar.ledgers import Ledger, jar_of, ledger_of
+from crumbjar.lines import Line, NoCrumb, read_line, write_line
 from crumbjar.papers import only_first
 from crumbjar.pieces import defects_of
 from crumbjar.requests import Request, lax, near, partition_of
 from crumbjar.rules import broken_rules, line_paper
+from crumbjar.saving import jar_text
+from crumbjar.shelves import best_row, certificate, check_certificate, fewest
 from crumbjar.shortest import shortest_line
 from crumbjar.suffixes import family_of, site_of, suffix_of
+from crumbjar.wishes import grant, lines_for
 
 FUNCTIONS = {
     "words": {"is_integer": "value", "is_tick": "value", "need_tick": "value"},
@@ -67,6 +74,47 @@ FUNCTIONS = {
         "next_change": "jar, request",
         "answers": "jar, request, goal",
     },
+    "stamps": {"is_device": "value", "is_stamp": "value", "is_key": "value", "is_write": "key, value"},
+    "ledgers": {
+        "Ledger": "*, writes=None, seens=None",
+        "ledger_of": "jar, device",
+        "jar_of": "ledger, rules, tick, *, most_of_family=20, most=60",
+    },
+    "saving": {"jar_text": "jar", "jar_at": "text", "ledger_text": "ledger", "ledger_at": "text"},
+    "futures": {
+        "meets": "rules, key, other",
+        "settled": "jar, tick",
+        "same_future": "one, other, tick",
+        "separating": "one, other, tick",
+        "replayed": "jar, deeds",
+    },
+    "tables": {
+        "is_answer": "value",
+        "check_table": "value",
+        "answer_of": "table, address",
+        "texts_given": "answer, number, names",
+    },
+    "browsers": {"Browser": "rules, table, *, most_of_family=20, most=60"},
+    "flows": {
+        "setter_of": "rows, number, key",
+        "alone": "rules, rows, family",
+        "groups": "rules, rows, family, name",
+        "audit": "rules, rows, *, most_of_family=20, most=60",
+    },
+    "shelves": {
+        "weight": "shelf, wish, row",
+        "best_row": "shelf, wish",
+        "fewest": "shelf, wish",
+        "certificate": "shelf, wish",
+        "check_certificate": "shelf, wish, many, shown",
+        "easiest": "shelf, pairs",
+    },
+    "wishes": {
+        "shelf_of": "jar, request, tick",
+        "why_not": "jar, request, wish, tick",
+        "lines_for": "jar, request, wish, tick",
+        "grant": "jar, request, wish, tick",
+    },
 }
 # The methods of each class, with their arguments behind self.
 METHODS = {
@@ -85,6 +133,24 @@ METHODS = {
         "crumb_at": "key",
         "copied": "",
     },
+    "ledgers.Ledger": {"__eq__": "other", "merged": "*others", "is_within": "other", "news_for": "other"},
+    "browsers.Browser": {
+        "__len__": "",
+        "visit": "address, tick, *, is_reading=True",
+        "follow": "address, tick, *, is_reading=True",
+        "close": "tick",
+        "rows": "",
+    },
+}
+# The attributes that each object has as soon as it is created.
+ATTRIBUTES = {
+    "Line": "name value expires age domain path is_secure is_hidden same is_partitioned priority",
+    "NoCrumb": "word",
+    "Request": "addresses starter frames is_reading by target",
+    "Crumb": "name value host is_exact path is_secure is_hidden same priority space born seen ends key",
+    "Jar": "rules most_of_family most crumbs tick deeds log",
+    "Ledger": "writes seens",
+    "Browser": "tick pages",
 }
 
 
@@ -106,6 +172,15 @@ class InterfaceTest(unittest.TestCase):
                 with self.subTest(place + "." + method):
                     wanted = "(" + ", ".join(["self"] + ([arguments] if arguments else [])) + ")"
                     self.assertEqual(str(inspect.signature(found[method])), wanted)
+
+    def test_attributes(self):
+        made = (Line("n", "1"), NoCrumb("empty"), Request((("http", "a.com", "/"),)), Crumb("n", "1", "a.com"), Jar(()),
+                Ledger(), Browser((), ()))
+        self.assertEqual(sorted(ATTRIBUTES), sorted(type(value).__name__ for value in made))
+        for value in made:
+            for name in ATTRIBUTES[type(value).__name__].split():
+                with self.subTest(type(value).__name__ + "." + name):
+                    self.assertTrue(hasattr(value, name))
 
 
 class ExamplesTest(unittest.TestCase):
@@ -161,6 +236,46 @@ class ExamplesTest(unittest.TestCase):
                           jar.receive(request, "b=3; Path=/", 5)), ("set", "set", "changed"))
         self.assertEqual((header(jar.look(request, 6)), jar.log[2]),
                          ("a=1; b=3", (3, 5, "changed", ((), "www.a.com", True, "/", "b"))))
+
+    def test_ledgers(self):
+        one, other, page = Jar(()), Jar(()), Request((("https", "a.com", "/"),))
+        self.assertEqual((one.receive(page, "n=1; Max-Age=90", 5), other.receive(page, "n=2; Max-Age=9", 6),
+                          one.look(page, 7)), ("set", "set", (("n", "1"),)))
+        both = ledger_of(one, "phone").merged(ledger_of(other, "desk"))
+        self.assertEqual((both == ledger_of(other, "desk").merged(ledger_of(one, "phone")),
+                          jar_of(both, (), 8).look(page, 9)), (True, (("n", "2"),)))
+
+    def test_futures(self):
+        old, late = Crumb("n", "1", "a.com", born=(3, 7), seen=50), Crumb("m", "2", "b.com", born=(400, 9), seen=401)
+        jar = Jar((), crumbs=(old, late), tick=402)
+        self.assertEqual(
+            jar_text(settled(jar, 500)).split("\n")[1:],
+            ["crumb - a.com exact / \"n\" \"1\" - - lax 1 - 0 1 0",
+             "crumb - b.com exact / \"m\" \"2\" - - default 1 - 400 2 400"])
+
+    def test_browsers(self):
+        page, picture = ("https", "a.com", "/"), ("https", "t.net", "/i")
+        seen = (("new", "u=*; Secure; SameSite=None"),)
+        table = ((page, ((("new", "id=*"),), None, (("picture", picture),))), (picture, (seen, None, ())))
+        browser = Browser(("com", "net"), table)
+        self.assertEqual((browser.visit(page, 5), browser.visit(page, 6), len(browser), browser.pages),
+                         (2, 2, 4, ((0, ("https", "a.com", "/")),)))
+        rows = tuple(list(browser.rows()))
+        self.assertEqual((rows[1][5], groups(("com", "net"), rows, "t.net", "u"), audit(("com", "net"), rows)),
+                         ((("u=2; Secure; SameSite=None", "set", ((), "t.net", True, "/", "u")),), ((2, 4),), None))
+
+    def test_shelves(self):
+        shelf, wish = (2, ((2, "a", "1"), (1, "b", "2"))), (("a", "1"), ("c", "3"), ("b", "2"))
+        self.assertEqual(
+            (best_row(shelf, wish), fewest(shelf, wish), check_certificate(shelf, wish, 1, certificate(shelf, wish))),
+            (((0, 0), (1, 2)), 1, True))
+
+    def test_wishes(self):
+        jar, request = Jar(()), Request((address_of("https://a.example/x/y"),))
+        self.assertEqual(
+            (lines_for(jar, request, (("a", "1"),), 5), grant(jar, request, (("a", "1"), ("b", "2")), 5),
+             jar.look(request, 6)),
+            (("a=1; Path=/; Secure",), 2, (("a", "1"), ("b", "2"))))
 
 
 if __name__ == "__main__":
