@@ -24,10 +24,8 @@ def need_tick(value):
 
 def has_only(text, signs):
     """Tell whether a text has one sign or more, and each one is among these signs."""
-    for sign in text:
-        if sign not in signs:
-            return False
-    return text != ""
+    # What is stripped away at both ends is all of a text that has no other sign.
+    return text != "" and text.strip(signs) == ""
 
 
 def is_digits(text):
